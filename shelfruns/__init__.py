@@ -1,0 +1,1 @@
+"""Shelfruns: books on a shelf, and wishes of which ones stand together."""
