@@ -5,6 +5,8 @@ NoBook goes ahead of any other refusal, so whoever asks calls the checks of book
 
 from shelfruns.errors import NoBook, NoOrder, NoTurn
 
+MOST_WISHES = 12
+
 
 def check_books(many, books):
     for book in books:

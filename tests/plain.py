@@ -1,9 +1,19 @@
 """What the document says, found by plain search, for the tests to compare with."""
 
-from itertools import permutations
+from itertools import combinations, permutations
 from random import Random
 
 BIG = 10 ** 40 - 1
+# No order keeps these: 0 would stand beside each of the three others.
+STAR = [[0, 1], [0, 2], [0, 3]]
+CIRCLE = [[0, 1], [1, 2], [2, 3], [3, 0]]
+EIGHT = [3, 1, 4, 0, 5, 7, 2, 6]
+NO_ORDERS_OF_THREE = (
+    [], [0], [0, 1], [1, 2], [0, 1, 1], [0, 0, 0], [0, 1, 2, 2], [0, 1, 2, 3], [0, 1, 3], [1, 2, 3],
+    [-1, 0, 1], [0, 1, -1], [0, 1, 2, -1], [0, 1, BIG], [-BIG, 1, 2], [0, 1, 2, BIG],
+    [0, 1, 2, 0, 1, 2], list(range(20)), [0] * 20,
+)
+NO_ORDERS_OF_EIGHT = (EIGHT[:7], EIGHT + [8], EIGHT + [0], [8] + EIGHT[1:], [1] + EIGHT[1:])
 
 
 def every_order(many):
@@ -23,6 +33,22 @@ def some_order_keeps(many, wishes):
     return any(keeps_plainly(order, wishes) for order in permutations(range(many)))
 
 
+def kept_orders(many, wishes):
+    """All orders that keep the wishes, the first one first."""
+    return sorted(order for order in every_order(many) if keeps_plainly(order, wishes))
+
+
+def clash_plainly(many, wishes):
+    if some_order_keeps(many, wishes):
+        return None
+    left = dict(enumerate(wishes))
+    for number in range(len(wishes)):
+        wish = left.pop(number)
+        if some_order_keeps(many, left.values()):
+            left[number] = wish
+    return sorted(left)
+
+
 def every_turn(many):
     return list(permutations(range(many), 2))
 
@@ -36,6 +62,17 @@ def bar_plainly(wishes, one, other):
     return False
 
 
+def is_odd_ring(many, wishes, told):
+    """Whether it is a list of turns that is an odd ring."""
+    return (
+        type(told) is list
+        and all(type(turn) is tuple and turn in every_turn(many) for turn in told)
+        and len(told) >= 3
+        and len(told) % 2 == 1
+        and all(bar_plainly(wishes, before, behind) for before, behind in zip(told, told[1:] + told[:1]))
+    )
+
+
 def turns_needed(many, wishes, one, other):
     reached = {one}
     for count in range(1, many * many + 1):
@@ -44,6 +81,12 @@ def turns_needed(many, wishes, one, other):
         reached |= {turn for turn in every_turn(many)
                     if any(bar_plainly(wishes, turn, at) for at in reached)}
     return None
+
+
+def families(many, most):
+    """All lists of at most so many unlike wishes, each one that some order doesn't keep."""
+    single = [list(wish) for size in range(2, many) for wish in combinations(range(many), size)]
+    return [list(some) for count in range(most + 1) for some in combinations(single, count)]
 
 
 def some_wishes(seed, many, count):

@@ -44,6 +44,23 @@ def names_bound(nodes):
             yield node.name
 
 
+def names_at_top(module):
+    for node in module.body:
+        yield from names_bound([node] + (node.targets if isinstance(node, ast.Assign) else []))
+
+
+def is_docstring(node):
+    return isinstance(node, ast.Expr) and isinstance(node.value, ast.Constant) and isinstance(node.value.value, str)
+
+
+def classes_of_package():
+    return [node for path in package_files() for node in nodes_of(path) if isinstance(node, ast.ClassDef)]
+
+
+def values_given(nodes):
+    return {node.attr for node in nodes if isinstance(node, ast.Attribute) and isinstance(node.ctx, ast.Store)}
+
+
 def walked_on_the_spot(nodes):
     for node in nodes:
         if isinstance(node, (ast.For, ast.comprehension)):
@@ -55,8 +72,7 @@ def walked_on_the_spot(nodes):
 class Language(unittest.TestCase):
     def each(self):
         for path in package_files():
-            with self.subTest(path.name):
-                yield path, nodes_of(path)
+            yield path, nodes_of(path)
 
     def test_files(self):
         for path in package_files():
@@ -130,12 +146,49 @@ class Language(unittest.TestCase):
                 self.assertEqual((node.level, node.module.partition(".")[0]), (0, "shelfruns"))
                 self.assertEqual([name.asname for name in node.names if name.asname], [])
                 source = ast.parse((PACKAGE / (node.module.partition(".")[2] + ".py")).read_text())
-                self.assertLessEqual({name.name for name in node.names}, set(names_bound(source.body)))
+                self.assertLessEqual({name.name for name in node.names}, set(names_at_top(source)), path)
         while drawn:
             free = [stem for stem in drawn if not set(drawn[stem]) & set(drawn)]
             self.assertTrue(free, f"these draw from one another: {sorted(drawn)}")
             for stem in free:
                 del drawn[stem]
+
+    def test_the_top_of_a_module(self):
+        for path in package_files():
+            source = ast.parse(path.read_text())
+            names = list(names_at_top(source))
+            self.assertEqual(len(names), len(set(names)), path)
+            for place, node in enumerate(source.body):
+                if isinstance(node, ast.Assign):
+                    # No list or dict lies at a file's top by now, so none can be changed there.
+                    self.assertIsInstance(node.value, ast.Constant, (path, node.lineno))
+                elif not (place == 0 and is_docstring(node)):
+                    self.assertIsInstance(node, (ast.ImportFrom, ast.FunctionDef, ast.ClassDef), (path, node.lineno))
+
+    def test_classes(self):
+        methods, values = [], set()
+        for path, nodes in self.each():
+            values |= values_given(nodes)
+            at_top = ast.parse(path.read_text()).body
+            self.assertEqual(len([node for node in nodes if isinstance(node, ast.ClassDef)]),
+                             len([node for node in at_top if isinstance(node, ast.ClassDef)]), path)
+        for node in classes_of_package():
+            self.assertLessEqual(len(node.bases), 1, node.name)
+            own = [inner.name for inner in node.body if isinstance(inner, ast.FunctionDef)]
+            self.assertEqual(len(own), len(set(own)), node.name)
+            methods += own
+            for inner in node.body:
+                self.assertIsInstance(inner, (ast.FunctionDef, ast.Pass), (node.name, inner.lineno))
+        taken = {name for kind in (str, int, list, dict, set, bytes, tuple) for name in dir(kind)}
+        self.assertEqual(sorted(values & set(methods)), [])
+        self.assertEqual(sorted(values & taken), [])
+        self.assertEqual(sorted(set(methods) & taken - {"__init__"}), [])
+
+    def test_a_made_object_gives_nothing_back(self):
+        for node in classes_of_package():
+            for inner in node.body:
+                if isinstance(inner, ast.FunctionDef) and inner.name == "__init__":
+                    self.assertFalse([at for at in ast.walk(inner) if isinstance(at, ast.Return)], node.name)
 
     def test_is_stands_beside_none_true_and_false_alone(self):
         for path, nodes in self.each():

@@ -6,20 +6,11 @@ from itertools import combinations, product
 from shelfruns.errors import NoBook, NoTurn
 from shelfruns.turns import bar, chain, odd_ring
 from tests.plain import (
-    BIG, bar_plainly, every_order, every_turn, keeps_plainly, kept_wishes, some_order_keeps, some_wishes,
-    turns_needed, wishes_with_wrong_book,
+    BIG, CIRCLE, STAR, bar_plainly, every_order, every_turn, families, is_odd_ring, keeps_plainly, kept_wishes,
+    some_order_keeps, some_wishes, turns_needed, wishes_with_wrong_book,
 )
 
 WRONG_BOOKS = (-1, 4, 5, -4, BIG, -BIG)
-# No order keeps these: 0 would stand beside each of the three others.
-STAR = [[0, 1], [0, 2], [0, 3]]
-CIRCLE = [[0, 1], [1, 2], [2, 3], [3, 0]]
-
-
-def families(many, most):
-    """All lists of at most so many unlike wishes, each one that some order doesn't keep."""
-    single = [list(wish) for size in range(2, many) for wish in combinations(range(many), size)]
-    return [list(some) for count in range(most + 1) for some in combinations(single, count)]
 
 
 class Refusals:
@@ -193,13 +184,7 @@ class OddRing(unittest.TestCase):
         if some_order_keeps(many, wishes) if kept is None else kept:
             self.assertIsNone(told, (many, wishes))
             return
-        self.assertIs(type(told), list, (many, wishes))
-        self.assertTrue(all(type(turn) is tuple for turn in told))
-        self.assertLessEqual(set(told), set(every_turn(many)))
-        self.assertEqual(len(told) % 2, 1, (wishes, told))
-        self.assertGreaterEqual(len(told), 3)
-        for before, behind in zip(told, told[1:] + told[:1]):
-            self.assertTrue(bar_plainly(wishes, before, behind), (wishes, told))
+        self.assertTrue(is_odd_ring(many, wishes, told), (many, wishes, told))
 
     def test_arguments(self):
         self.assertEqual(list(inspect.signature(odd_ring).parameters), ["many", "wishes"])

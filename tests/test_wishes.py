@@ -5,13 +5,9 @@ from itertools import combinations
 
 from shelfruns.errors import NoBook, NoOrder
 from shelfruns.wishes import kept, stands
-from tests.plain import BIG, every_order, kept_wishes, some_wishes, stands_plainly, wishes_with_wrong_book
-
-EIGHT = [3, 1, 4, 0, 5, 7, 2, 6]
-NO_ORDERS_OF_THREE = (
-    [], [0], [0, 1], [1, 2], [0, 1, 1], [0, 0, 0], [0, 1, 2, 2], [0, 1, 2, 3], [0, 1, 3], [1, 2, 3],
-    [-1, 0, 1], [0, 1, -1], [0, 1, 2, -1], [0, 1, BIG], [-BIG, 1, 2], [0, 1, 2, BIG],
-    [0, 1, 2, 0, 1, 2], list(range(20)), [0] * 20,
+from tests.plain import (
+    EIGHT, NO_ORDERS_OF_EIGHT, NO_ORDERS_OF_THREE, every_order, kept_wishes, some_wishes, stands_plainly,
+    wishes_with_wrong_book,
 )
 
 
@@ -60,7 +56,7 @@ class Stands(unittest.TestCase):
         for order in ([], [1], [0, 0], [0, 1], [-1]):
             with self.assertRaises(NoOrder, msg=order):
                 stands(1, order, [0])
-        for order in (EIGHT[:7], EIGHT + [8], EIGHT + [0], [8] + EIGHT[1:], [1] + EIGHT[1:]):
+        for order in NO_ORDERS_OF_EIGHT:
             with self.assertRaises(NoOrder, msg=order):
                 stands(8, order, [])
 
